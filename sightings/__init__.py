@@ -1,0 +1,1 @@
+"""Sightings of a strayed beast on places and ways, some of them wrong."""
